@@ -1,0 +1,1 @@
+"""Nearnames: houses that find one another by likeness of names."""

@@ -1,0 +1,158 @@
+"""Holds the package to the rules of LANGUAGE.md that a reading of its files can see."""
+
+import ast
+import pathlib
+import re
+import unittest
+
+PACKAGE = pathlib.Path(__file__).resolve().parent.parent / "nearnames"
+FILES = sorted(PACKAGE.rglob("*.py"))
+
+STATEMENTS = (ast.FunctionDef, ast.ClassDef, ast.Assign, ast.AugAssign, ast.If, ast.While, ast.For, ast.Return,
+              ast.Break, ast.Continue, ast.Pass, ast.Raise, ast.Try, ast.ImportFrom, ast.Expr)
+EXPRESSIONS = (ast.BoolOp, ast.BinOp, ast.UnaryOp, ast.Lambda, ast.IfExp, ast.Dict, ast.Set, ast.ListComp, ast.Compare,
+               ast.Call, ast.FormattedValue, ast.JoinedStr, ast.Constant, ast.Attribute, ast.Subscript, ast.Name,
+               ast.List, ast.Tuple, ast.Slice)
+BUILT_IN = """len range enumerate zip min max sum abs sorted reversed int str bool list tuple dict set frozenset isinstance
+    ord repr any all divmod Exception ValueError TypeError KeyError IndexError LookupError ZeroDivisionError
+    ArithmeticError OverflowError RuntimeError NotImplementedError AttributeError StopIteration""".split()
+METHODS = """append clear copy count endswith extend find get index insert isalnum isalpha isdigit islower isspace isupper
+    items join keys ljust lower lstrip partition pop remove replace reverse rfind rjust rpartition rsplit rstrip
+    setdefault split splitlines startswith strip update upper values zfill bit_length __init__""".split()
+UNUSED_NAMES = """attrgetter breakpoint builtins compile copyright credits delattr dir eval exec exit gc getattr globals
+    hasattr help id importlib license locals methodcaller os quit setattr super type vars sys register mro elements open
+    input version_info with_traceback add_note""".split()
+UNUSED_WORDS = re.compile(
+    r"\b(type|typing|typing_extensions|enum|Enum|IntEnum|StrEnum|Flag|IntFlag|Generic|Protocol|ABC|ABCMeta|namedtuple"
+    r"|NamedTuple|TypedDict|TYPE_CHECKING|abstractmethod)\b|dataclass|overload|contextmanager")
+
+
+def nodes(path):
+    return list(ast.walk(ast.parse(path.read_text(encoding="ascii"))))
+
+
+def each_node():
+    for path in FILES:
+        for node in nodes(path):
+            where = f"{path.name}, line {getattr(node, 'lineno', None)}"
+            yield where, node
+
+
+def own_names():
+    """Every name that a file of the package binds: defs, classes, arguments, imports and assigned names."""
+    bound = {}
+    for path in FILES:
+        for node in nodes(path):
+            if isinstance(node, (ast.FunctionDef, ast.ClassDef)):
+                bound[node.name] = True
+            if isinstance(node, ast.arg):
+                bound[node.arg] = True
+            if isinstance(node, ast.Name) and isinstance(node.ctx, ast.Store):
+                bound[node.id] = True
+            if isinstance(node, ast.ExceptHandler) and node.name:
+                bound[node.name] = True
+    return bound
+
+
+def methods_and_values():
+    methods, values = set(), set()
+    for path in FILES:
+        for node in nodes(path):
+            if isinstance(node, ast.ClassDef):
+                methods.update(part.name for part in node.body if isinstance(part, ast.FunctionDef))
+            if isinstance(node, ast.Attribute) and isinstance(node.ctx, ast.Store):
+                values.add(node.attr)
+    return methods, values
+
+
+class TestLanguage(unittest.TestCase):
+    def test_files_and_signs(self):
+        self.assertIn(PACKAGE / "__init__.py", FILES)
+        for path in PACKAGE.rglob("*"):
+            if "__pycache__" not in path.parts:
+                self.assertRegex(path.name, r"^[a-z_][a-z0-9_]*\.py$")
+        for path in FILES:
+            self.assertRegex(path.read_bytes().decode("ascii"), r"\A[ -~\n]*\Z")
+
+    def test_sizes(self):
+        for path in FILES:
+            lines = path.read_text().splitlines()
+            self.assertLessEqual(len(lines), 400, path.name)
+            self.assertLessEqual(max(len(line) for line in lines), 120, path.name)
+        for where, node in each_node():
+            if isinstance(node, ast.FunctionDef):
+                self.assertLessEqual(node.end_lineno - node.lineno + 1, 40, where)
+
+    def test_unused_words(self):
+        for path in FILES:
+            self.assertIsNone(UNUSED_WORDS.search(path.read_text()), path.name)
+
+    def test_imports(self):
+        for where, node in each_node():
+            self.assertNotIsInstance(node, ast.Import, where)
+            if isinstance(node, ast.ImportFrom):
+                self.assertEqual(node.level, 0, where)
+                self.assertTrue(node.module.startswith("nearnames."), where)
+                self.assertTrue((PACKAGE / f"{node.module.split('.')[1]}.py").is_file(), where)
+                self.assertNotIn("*", [part.name for part in node.names], where)
+
+    def test_statements_and_expressions(self):
+        for where, node in each_node():
+            if isinstance(node, ast.stmt):
+                self.assertIsInstance(node, STATEMENTS, where)
+            if isinstance(node, ast.expr):
+                self.assertIsInstance(node, EXPRESSIONS, where)
+            if isinstance(node, ast.Assign):
+                self.assertEqual(len(node.targets), 1, where)
+            if isinstance(node, (ast.For, ast.While)):
+                self.assertEqual(node.orelse, [], where)
+            if isinstance(node, ast.Try):
+                self.assertEqual(node.finalbody, [], where)
+            if isinstance(node, ast.Constant):
+                self.assertIn(type(node.value), (int, str, bool, type(None)), where)
+            if isinstance(node, ast.BinOp):
+                self.assertNotIsInstance(node.op, (ast.Div, ast.MatMult), where)
+
+    def test_powers_have_a_written_exponent(self):
+        for where, node in each_node():
+            if isinstance(node, ast.BinOp) and isinstance(node.op, ast.Pow):
+                self.assertIsInstance(node.right, ast.Constant, where)
+
+    def test_is_stands_beside_none_and_truths(self):
+        for where, node in each_node():
+            if isinstance(node, ast.Compare):
+                for sign, right in zip(node.ops, node.comparators):
+                    if isinstance(sign, (ast.Is, ast.IsNot)):
+                        self.assertIsInstance(right, ast.Constant, where)
+                        self.assertIn(type(right.value), (bool, type(None)), where)
+
+    def test_defs(self):
+        for where, node in each_node():
+            if isinstance(node, (ast.FunctionDef, ast.ClassDef)):
+                self.assertEqual(node.decorator_list, [], where)
+            if isinstance(node, ast.arguments):
+                self.assertFalse(node.vararg or node.kwarg or node.kwonlyargs or node.posonlyargs, where)
+            if isinstance(node, ast.ClassDef):
+                self.assertLessEqual(len(node.bases), 1, where)
+                for part in node.body:
+                    self.assertIsInstance(part, (ast.FunctionDef, ast.Pass), where)
+
+    def test_names(self):
+        bound = own_names()
+        for word in bound:
+            self.assertRegex(word, r"^([A-Za-z][A-Za-z0-9_]*|__init__)$")
+            self.assertNotIn(word, BUILT_IN + UNUSED_NAMES)
+        for where, node in each_node():
+            if isinstance(node, ast.Name):
+                self.assertTrue(node.id in bound or node.id in BUILT_IN, where)
+
+    def test_attributes(self):
+        methods, values = methods_and_values()
+        self.assertEqual(methods & values, set())
+        for where, node in each_node():
+            if isinstance(node, ast.Attribute):
+                self.assertTrue(node.attr in METHODS or node.attr in methods or node.attr in values, where)
+
+
+if __name__ == "__main__":
+    unittest.main()
