@@ -1,4 +1,4 @@
-"""Holds the package to the rules of LANGUAGE.md that a reading of its files can see."""
+"""Holds the package to some of the rules of LANGUAGE.md; L13, L15, L19 and L22 to L24, among others, are not checked."""
 
 import ast
 import pathlib
