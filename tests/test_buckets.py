@@ -1,23 +1,8 @@
 import random
 import unittest
 
+from helpers import Answers, never_asked
 from nearnames.buckets import Bucket
-
-
-class Answers:
-    """Tells whether a name answers, and writes down each name that it was asked of."""
-
-    def __init__(self, answering):
-        self.answering = answering
-        self.asked = []
-
-    def __call__(self, name):
-        self.asked.append(name)
-        return name in self.answering
-
-
-def never_asked(name):
-    raise AssertionError(f"asked of {name}")
 
 
 def filled(room, names):

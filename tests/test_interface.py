@@ -1,38 +1,74 @@
 import inspect
 import unittest
 
-from nearnames import buckets, names
+from nearnames import asks, buckets, names, tables, towns
 
-FUNCTIONS = {
-    "is_name": ["thing", "wide"],
-    "far": ["one", "other"],
-    "nearer": ["goal", "one", "other"],
-    "by_nearness": ["goal", "names"],
-    "step": ["one", "other"],
-    "span": ["name", "k"],
-    "shown": ["name", "wide"],
-    "read": ["text", "wide"],
+NAMES = {
+    "is_name": "thing, wide",
+    "far": "one, other",
+    "nearer": "goal, one, other",
+    "by_nearness": "goal, names",
+    "step": "one, other",
+    "span": "name, k",
+    "shown": "name, wide",
+    "read": "text, wide",
 }
-BUCKET_METHODS = {
-    "__init__": ["self", "room"],
-    "hears": ["self", "name", "answers"],
-    "drops": ["self", "name"],
-    "names": ["self"],
+BUCKET = {
+    "__init__": "self, room",
+    "hears": "self, name, answers",
+    "drops": "self, name",
+    "names": "self",
 }
-
-
-def arguments(function):
-    return list(inspect.signature(function).parameters)
+TABLE = {
+    "__init__": "self, own, wide, room",
+    "hears": "self, name, answers",
+    "drops": "self, name",
+    "bucket": "self, k",
+    "keeps": "self",
+    "nearest": "self, goal, many, but=None",
+}
+ASKS = {
+    "asked": "start, goal, room, tells",
+    "way": "start, goal, tells",
+}
+TOWN = {
+    "__init__": "self, wide, room",
+    "houses": "self",
+    "answering": "self",
+    "answers": "self, name",
+    "bucket": "self, house, k",
+    "keeps": "self, house",
+    "tells": "self, house, goal, asker",
+    "come_to": "self, house",
+    "ask": "self, start, goal",
+    "way": "self, start, goal",
+    "come": "self, name, door=None",
+    "go": "self, house",
+    "hush": "self, house",
+    "wake": "self, house, door",
+}
 
 
 class TestInterface(unittest.TestCase):
-    def test_functions_of_names(self):
-        for word, wanted in FUNCTIONS.items():
-            self.assertEqual(arguments(getattr(names, word)), wanted, word)
+    def check(self, holder, wanted):
+        for word, arguments in wanted.items():
+            with self.subTest(word):
+                self.assertEqual(str(inspect.signature(getattr(holder, word))), f"({arguments})")
 
-    def test_methods_of_a_bucket(self):
-        for word, wanted in BUCKET_METHODS.items():
-            self.assertEqual(arguments(getattr(buckets.Bucket, word)), wanted, word)
+    def test_names(self):
+        self.check(names, NAMES)
+
+    def test_a_bucket(self):
+        self.check(buckets.Bucket, BUCKET)
+
+    def test_a_table(self):
+        self.check(tables.Table, TABLE)
+
+    def test_asks(self):
+        self.check(asks, ASKS)
+
+    def test_a_town(self):
+        self.check(towns.Town, TOWN)
 
 
 if __name__ == "__main__":

@@ -1,6 +1,7 @@
-"""Holds the package to some of the rules of LANGUAGE.md; L13, L15, L19 and L22 to L24, among others, are not checked."""
+"""Holds the package to some of the rules of LANGUAGE.md; L19, L22, L23 and L28, among others, are not checked."""
 
 import ast
+import builtins
 import pathlib
 import re
 import unittest
@@ -52,6 +53,23 @@ def own_names():
             if isinstance(node, ast.ExceptHandler) and node.name:
                 bound[node.name] = True
     return bound
+
+
+def parents():
+    """Pairs of a node of the package and the node right above it, with the place of the first."""
+    for where, node in each_node():
+        for part in ast.iter_child_nodes(node):
+            yield f"{where} or below", part, node
+
+
+def locals_of(tree):
+    """Every parameter and local of a file's defs and lambdas, and the targets of its comprehensions."""
+    words = {node.arg for node in ast.walk(tree) if isinstance(node, ast.arg)}
+    for part in ast.walk(tree):
+        if isinstance(part, (ast.FunctionDef, ast.ListComp)):
+            named = [node for node in ast.walk(part) if isinstance(node, ast.Name)]
+            words |= {node.id for node in named if isinstance(node.ctx, ast.Store)}
+    return words
 
 
 def methods_and_values():
@@ -112,6 +130,67 @@ class TestLanguage(unittest.TestCase):
                 self.assertIn(type(node.value), (int, str, bool, type(None)), where)
             if isinstance(node, ast.BinOp):
                 self.assertNotIsInstance(node.op, (ast.Div, ast.MatMult), where)
+
+    def test_the_top_of_a_file(self):
+        for path in FILES:
+            tree = ast.parse(path.read_text())
+            self.assertIsNotNone(ast.get_docstring(tree), path.name)
+            for part in tree.body[1:]:
+                self.assertIsInstance(part, (ast.ImportFrom, ast.FunctionDef, ast.ClassDef, ast.Assign), path.name)
+
+    def test_comprehensions_have_one_for_and_at_most_one_if(self):
+        for where, node in each_node():
+            if isinstance(node, ast.ListComp):
+                self.assertEqual(len(node.generators), 1, where)
+                self.assertLessEqual(len(node.generators[0].ifs), 1, where)
+
+    def test_texts(self):
+        for where, node in each_node():
+            if isinstance(node, ast.FormattedValue):
+                self.assertIsInstance(node.value, ast.Name, where)
+                self.assertIn(node.conversion, (-1, ord("r")), where)
+                self.assertIsNone(node.format_spec, where)
+            if isinstance(node, ast.Constant) and isinstance(node.value, str):
+                self.assertNotIn("%", node.value, where)
+
+    def test_lambdas_of_one_line_have_unlike_parameters(self):
+        for path in FILES:
+            lambdas = [(node.lineno, ast.unparse(node.args)) for node in nodes(path) if isinstance(node, ast.Lambda)]
+            self.assertEqual(len(lambdas), len(set(lambdas)), path.name)
+
+    def test_locals_are_not_called_like_imports_or_classes_or_pythons_own(self):
+        for path in FILES:
+            tree = ast.parse(path.read_text())
+            taken = {alias.name for node in tree.body if isinstance(node, ast.ImportFrom) for alias in node.names}
+            taken |= {node.name for node in tree.body if isinstance(node, ast.ClassDef)}
+            self.assertEqual(locals_of(tree) & (taken | set(dir(builtins))), set(), path.name)
+
+    def test_names_of_a_files_top_are_bound_once(self):
+        for path in FILES:
+            bound = []
+            for node in ast.parse(path.read_text()).body:
+                if isinstance(node, ast.ImportFrom):
+                    bound += [alias.asname or alias.name for alias in node.names]
+                if isinstance(node, (ast.FunctionDef, ast.ClassDef)):
+                    bound.append(node.name)
+                if isinstance(node, ast.Assign):
+                    bound += [target.id for target in node.targets]
+            self.assertEqual(len(bound), len(set(bound)), path.name)
+
+    def test_methods_are_called_where_they_stand(self):
+        methods, values = methods_and_values()
+        for where, node, above in parents():
+            if isinstance(node, ast.Attribute) and node.attr in methods | set(METHODS) and node.attr not in values:
+                called = isinstance(above, ast.Call) and above.func is node
+                self.assertTrue(called or isinstance(above, ast.keyword) and above.arg == "key", where)
+
+    def test_sets_are_not_kept_nor_walked(self):
+        for where, node, above in parents():
+            if isinstance(node, ast.Call) and isinstance(node.func, ast.Name) and node.func.id in ("set", "frozenset"):
+                beside = isinstance(above, (ast.Compare, ast.BinOp))
+                plain = isinstance(above, ast.Call) and not above.keywords
+                within = plain and getattr(above.func, "id", None) in ("sorted", "len")
+                self.assertTrue(beside or within, where)
 
     def test_powers_have_a_written_exponent(self):
         for where, node in each_node():

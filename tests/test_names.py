@@ -1,6 +1,7 @@
 import random
 import unittest
 
+from helpers import Unlike, deep_list
 from nearnames.errors import NoName
 from nearnames.names import by_nearness, far, is_name, nearer, read, shown, span, step
 
@@ -10,23 +11,6 @@ WIDES = list(range(1, 61))
 def drawn_names(seed, wide, many):
     draw = random.Random(seed)
     return [draw.getrandbits(wide) for turn in range(many)]
-
-
-class Unlike:
-    """Fails whatever is asked of it: a refusal may not hang on the thing's own deeds."""
-
-    def fail(self, *given):
-        raise RuntimeError("asked")
-
-    __eq__ = __lt__ = __le__ = __gt__ = __ge__ = __len__ = __iter__ = __bool__ = __repr__ = __str__ = fail
-    __hash__ = None
-
-
-def deep_list():
-    deep = []
-    for turn in range(100000):
-        deep = [deep]
-    return deep
 
 
 class TestIsName(unittest.TestCase):
