@@ -78,13 +78,16 @@ class Town:
         if door is not None:
             self.check_answering(door)
         self.tables[name] = Table(name, self.wide, self.room)
-        return [] if door is None else self.visits(name, door)
+        visited = [] if door is None else self.visits(name, door)
+        self.settles(name, visited)
+        return visited
 
     def go(self, house):
         self.check_house(house)
         self.tables.pop(house)
         # Else a house that comes again by this name would lie silent.
         self.silent.pop(house, None)
+        self.leaves(house)
 
     def hush(self, house):
         self.check_house(house)
@@ -96,7 +99,9 @@ class Town:
             raise Taken("this house answers")
         self.check_answering(door)
         self.silent.pop(house)
-        return self.visits(house, door)
+        visited = self.visits(house, door)
+        self.settles(house, visited)
+        return visited
 
     def check_name(self, thing):
         if not is_name(thing, self.wide):
@@ -114,12 +119,25 @@ class Town:
     def teller(self):
         return lambda house, goal, asker: self.tells(house, goal, asker)
 
+    def settles(self, house, visited):
+        # A town keeps no things; a market lets a house that came or woke take its own here.
+        pass
+
+    def leaves(self, house):
+        # As above: here a house that went takes its things along.
+        pass
+
     def learns(self, start, row):
         for house, told in row[1:]:
             if told is None:
                 self.tables[start].drops(house)
             else:
                 self.meet(start, house)
+
+    def drops_lost(self, house):
+        for name in self.keeps(house):
+            if not self.answers(name):
+                self.tables[house].drops(name)
 
     def visits(self, house, door):
         # Reckoned once the house answers, so its own table may lead on.

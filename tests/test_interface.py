@@ -1,7 +1,7 @@
 import inspect
 import unittest
 
-from nearnames import asks, buckets, names, tables, towns
+from nearnames import asks, buckets, desk, markets, names, rests, tables, towns
 
 NAMES = {
     "is_name": "thing, wide",
@@ -47,6 +47,23 @@ TOWN = {
     "hush": "self, house",
     "wake": "self, house, door",
 }
+RESTS = {
+    "fault": "town",
+    "holes": "town",
+    "look_round": "town, house",
+    "tide": "town",
+}
+MARKET = {
+    "__init__": "self, wide, room",
+    "lay": "self, start, key, text",
+    "seek": "self, start, key",
+    "kept": "self, house",
+    "tide": "self",
+}
+DESK = {
+    "__init__": "self",
+    "say": "self, line",
+}
 
 
 class TestInterface(unittest.TestCase):
@@ -69,6 +86,15 @@ class TestInterface(unittest.TestCase):
 
     def test_a_town(self):
         self.check(towns.Town, TOWN)
+
+    def test_rests(self):
+        self.check(rests, RESTS)
+
+    def test_a_market(self):
+        self.check(markets.Market, {**TOWN, **MARKET})
+
+    def test_a_desk(self):
+        self.check(desk.Desk, DESK)
 
 
 if __name__ == "__main__":

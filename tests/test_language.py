@@ -1,4 +1,4 @@
-"""Holds the package to some of the rules of LANGUAGE.md; L19, L22, L23 and L28, among others, are not checked."""
+"""Holds the package to many of the rules of LANGUAGE.md; that a loop changes nothing it walks, say, is not checked."""
 
 import ast
 import builtins
@@ -23,6 +23,9 @@ METHODS = """append clear copy count endswith extend find get index insert isaln
 UNUSED_NAMES = """attrgetter breakpoint builtins compile copyright credits delattr dir eval exec exit gc getattr globals
     hasattr help id importlib license locals methodcaller os quit setattr super type vars sys register mro elements open
     input version_info with_traceback add_note""".split()
+KEYWORDS = {"sorted": ["key", "reverse"], "min": ["key", "default"], "max": ["key", "default"], "sum": ["start"],
+            "enumerate": ["start"], "zip": ["strict"]}
+WALKERS = "list tuple dict sorted sum any all enumerate zip min max".split()
 UNUSED_WORDS = re.compile(
     r"\b(type|typing|typing_extensions|enum|Enum|IntEnum|StrEnum|Flag|IntFlag|Generic|Protocol|ABC|ABCMeta|namedtuple"
     r"|NamedTuple|TypedDict|TYPE_CHECKING|abstractmethod)\b|dataclass|overload|contextmanager")
@@ -81,6 +84,22 @@ def methods_and_values():
             if isinstance(node, ast.Attribute) and isinstance(node.ctx, ast.Store):
                 values.add(node.attr)
     return methods, values
+
+
+def own_classes():
+    return {node.name for where, node in each_node() if isinstance(node, ast.ClassDef)}
+
+
+def called_name(node):
+    """The name of what is called, where it is called by a plain name."""
+    return node.func.id if isinstance(node, ast.Call) and isinstance(node.func, ast.Name) else None
+
+
+def is_walked_at_once(node):
+    """Whether this call tells something that may only be walked on the spot."""
+    by_method = isinstance(node, ast.Call) and isinstance(node.func, ast.Attribute)
+    return (called_name(node) in ("zip", "enumerate", "reversed", "range")
+            or by_method and node.func.attr in ("items", "keys", "values"))
 
 
 class TestLanguage(unittest.TestCase):
@@ -191,6 +210,55 @@ class TestLanguage(unittest.TestCase):
                 plain = isinstance(above, ast.Call) and not above.keywords
                 within = plain and getattr(above.func, "id", None) in ("sorted", "len")
                 self.assertTrue(beside or within, where)
+
+    def test_classes_are_not_handed_on(self):
+        classes = own_classes()
+        for where, node, above in parents():
+            if isinstance(node, ast.Name) and node.id in classes:
+                called = isinstance(above, ast.Call) and above.func is node
+                base_init = isinstance(above, ast.Attribute) and above.attr == "__init__"
+                named = isinstance(above, (ast.ClassDef, ast.ExceptHandler)) or called_name(above) == "isinstance"
+                self.assertTrue(called or base_init or named, where)
+
+    def test_what_is_walked_at_once_is_not_kept(self):
+        for where, node, above in parents():
+            if is_walked_at_once(node):
+                walked = isinstance(above, (ast.For, ast.comprehension)) and above.iter is node
+                self.assertTrue(walked or called_name(above) in WALKERS and above.args[0] is node, where)
+
+    def test_lists_and_dicts_of_a_files_top_are_only_read(self):
+        for path in FILES:
+            tree = ast.parse(path.read_text())
+            kept = {target.id for part in tree.body if isinstance(part, ast.Assign) for target in part.targets}
+            for above in ast.walk(tree):
+                for node in ast.iter_child_nodes(above):
+                    if isinstance(node, ast.Name) and node.id in kept and isinstance(node.ctx, ast.Load):
+                        read = isinstance(above, ast.Subscript) and isinstance(above.ctx, ast.Load)
+                        walked = isinstance(above, (ast.For, ast.comprehension)) and above.iter is node
+                        self.assertTrue(read or walked or isinstance(above, ast.Compare), path.name)
+
+    def test_keywords_at_pythons_own(self):
+        for where, node in each_node():
+            if isinstance(node, ast.Call) and called_name(node) in BUILT_IN:
+                for keyword in node.keywords:
+                    self.assertIn(keyword.arg, KEYWORDS.get(called_name(node), []), where)
+            if isinstance(node, ast.Call) and isinstance(node.func, ast.Attribute) and node.func.attr in METHODS:
+                self.assertEqual(node.keywords, [], where)
+
+    def test_errors_that_are_taken(self):
+        allowed = own_classes() | {"KeyError", "ZeroDivisionError", "StopIteration"}
+        for where, node in each_node():
+            if isinstance(node, ast.ExceptHandler):
+                self.assertIsInstance(node.type, ast.Name, where)
+                self.assertIn(node.type.id, allowed, where)
+            if isinstance(node, ast.Raise):
+                self.assertIsInstance(node.exc, ast.Call, where)
+
+    def test_two_underscores(self):
+        for where, node in each_node():
+            if isinstance(node, ast.FunctionDef) and node.name.startswith("__"):
+                self.assertEqual(node.name, "__init__", where)
+                self.assertFalse(any(isinstance(part, ast.Return) for part in ast.walk(node)), where)
 
     def test_powers_have_a_written_exponent(self):
         for where, node in each_node():

@@ -3,12 +3,8 @@
 import random
 import unittest
 
-from helpers import whole
+from helpers import Model, by_nearness, whole
 from nearnames.towns import Town
-
-
-def by_nearness(goal, names):
-    return sorted(names, key=lambda name: name ^ goal)
 
 
 def grown_town(draw, wide, room, many):
@@ -134,92 +130,6 @@ class TestBehindLosses(Promise):
                         deed(town, house)
                     self.check_ways_end(town, [goal])
                     self.check_first_found(town, [goal])
-
-
-class Model:
-    """The law of towns once more, told by itself: {house: [bucket, ..]} and the silent ones, no more."""
-
-    def __init__(self, wide, room):
-        self.wide, self.room = wide, room
-        self.tables, self.silent = {}, set()
-
-    def answering(self):
-        return sorted(set(self.tables) - self.silent)
-
-    def hears(self, house, name):
-        order = self.tables[house][(house ^ name).bit_length() - 1]
-        if name in order:
-            order.remove(name)
-        elif len(order) == self.room:
-            first = order.pop(0)
-            name = first if first in self.answering() else name
-        order.append(name)
-
-    def come_to(self, house):
-        reached = set()
-        more = {house}
-        while more - reached:
-            reached |= more
-            kept = {name for one in reached for order in self.tables[one] for name in order}
-            more = kept & set(self.answering())
-        return sorted(reached)
-
-    def visits(self, house, door):
-        visited = [name for name in self.come_to(door) if name != house]
-        for name in visited:
-            self.hears(house, name)
-            self.hears(name, house)
-        return visited
-
-    def come(self, name, door=None):
-        self.tables[name] = [[] for k in range(self.wide)]
-        return [] if door is None else self.visits(name, door)
-
-    def go(self, house):
-        self.tables.pop(house)
-        self.silent.discard(house)
-
-    def hush(self, house):
-        self.silent.add(house)
-
-    def wake(self, house, door):
-        self.silent.discard(house)
-        return self.visits(house, door)
-
-    def tells(self, house, goal, asker):
-        if house not in self.answering():
-            return None
-        return by_nearness(goal, {name for order in self.tables[house] for name in order} - {asker})[:self.room]
-
-    def ask(self, start, goal):
-        row = [(start, self.tells(start, goal, start))]
-        while True:
-            seen = {name for house, told in row for name in told or []} - {start}
-            stand = by_nearness(goal, seen - {house for house, told in row if told is None})[:self.room]
-            waiting = [name for name in stand if name not in [house for house, told in row]]
-            if not waiting:
-                break
-            row.append((waiting[0], self.tells(waiting[0], goal, start)))
-        for house, told in row[1:]:
-            if told is not None:
-                self.hears(start, house)
-                self.hears(house, start)
-            else:
-                for order in self.tables[start]:
-                    order[:] = [name for name in order if name != house]
-        return row, stand
-
-    def way(self, start, goal):
-        houses = [start]
-        while True:
-            here = houses[-1]
-            told = [name for name in self.tells(here, goal, here) if name in self.answering()]
-            if not told or told[0] ^ goal >= here ^ goal:
-                return houses
-            houses.append(told[0])
-
-    def whole(self):
-        return (self.wide, self.room, sorted(self.tables), self.answering(), self.tables)
 
 
 class TestManyDeeds(unittest.TestCase):

@@ -1,26 +1,8 @@
 import unittest
 
-from helpers import no_numbers, whole
+from helpers import ANSWERING, FREE, SILENT, no_names, of_all_sorts, whole
 from nearnames.errors import NearError, NoHouse, NoName, Silent, Taken
 from nearnames.towns import Town
-
-# In each town below 0, 1 and 5 answer, 2 and 6 are silent, 4 went though others keep it, 3 and 7 never were.
-ANSWERING, SILENT, FREE = [0, 1, 5], [2, 6], [3, 4, 7]
-
-
-def town_of_all_sorts():
-    town = Town(3, 2)
-    town.come(0)
-    for name in [1, 2, 4, 5, 6]:
-        town.come(name, 0)
-    town.go(4)
-    town.hush(2)
-    town.hush(6)
-    return town
-
-
-def no_names():
-    return no_numbers() + [None, -1, -8, 8, 9, 2 ** 60, 10 ** 59]
 
 
 def no_doors():
@@ -29,8 +11,10 @@ def no_doors():
 
 
 class TestRefusals(unittest.TestCase):
+    kind = Town
+
     def setUp(self):
-        self.town = town_of_all_sorts()
+        self.town = of_all_sorts(self.kind(3, 2))
         self.ahead = whole(self.town)
 
     def check(self, wanted, deed, *given):
@@ -123,7 +107,7 @@ class TestRefusals(unittest.TestCase):
 
     def test_the_edges_of_each_wide(self):
         for wide in range(1, 61):
-            self.town = Town(wide, 1)
+            self.town = self.kind(wide, 1)
             self.town.come(0)
             self.ahead = whole(self.town)
             for name in [2 ** wide, 2 ** wide + 1, -1]:
@@ -134,7 +118,7 @@ class TestRefusals(unittest.TestCase):
             self.assertEqual(self.town.come(2 ** wide - 1, 0), [0])
 
     def test_in_a_town_without_houses(self):
-        self.town = Town(3, 2)
+        self.town = self.kind(3, 2)
         self.ahead = whole(self.town)
         for name in range(8):
             self.check(NoHouse, self.town.come, name, 0)
